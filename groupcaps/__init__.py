@@ -1,0 +1,1 @@
+"""Groupcaps: units shared among items under nested limits."""
