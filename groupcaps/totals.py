@@ -1,7 +1,7 @@
 """Totals: which sums of units are possible, and reasons for it."""
 
-from groupcaps.errors import NoFit
-from groupcaps.systems import capacity_of, fits, is_choice, is_tuple_of
+from groupcaps.errors import NoFit, NoTotal
+from groupcaps.systems import capacity_of, fits, is_between, is_choice, is_tuple_of
 
 
 class Part:
@@ -10,10 +10,12 @@ class Part:
     The sums of units that fit are the integers from low to high. The groups of
     reason show that no sum is less than low; the groups and the items of the
     cover show that none is greater than high. The parts of which this one
-    consists are inside; a single item has none.
+    consists are inside; a single item has none. number is that of the group,
+    or None if the part is no group.
     """
 
     def __init__(self, members, low, high):
+        self.number = None
         self.members = members
         self.low = low
         self.high = high
@@ -45,6 +47,7 @@ def group_part(system, number, inside):
     """The part of a group that consists of these parts."""
     members, least, most = system[1][number]
     part = joined_part(inside)
+    part.number = number
     if least > part.low:
         part.low = least
         part.reason = [number]
@@ -80,22 +83,41 @@ def cover_of(part):
     return (tuple(sorted(part.cover_groups)), tuple(sorted(part.cover_items)))
 
 
+def spread(lows, highs, units):
+    """Numbers from the lows to the highs with this sum, the first ones as great as possible."""
+    numbers = []
+    rest = units - sum(lows)
+    for low, high in zip(lows, highs):
+        more = min(rest, high - low)
+        rest -= more
+        numbers.append(low + more)
+    return numbers
+
+
 def shares_of(part, units):
     """Pairs (item, units of the item) that fit, with this sum from low to high."""
     if len(part.inside) == 0:
         return [(part.members[0], units)]
-    shares = []
-    rest = units - sum([inner.low for inner in part.inside])
-    for inner in part.inside:
-        more = min(rest, inner.high - inner.low)
-        rest -= more
-        shares.extend(shares_of(inner, inner.low + more))
-    return shares
+    sums = spread([inner.low for inner in part.inside], [inner.high for inner in part.inside], units)
+    return [share for inner, each in zip(part.inside, sums) for share in shares_of(inner, each)]
+
+
+def plan_of_shares(shares):
+    """The plan in which each item has its share."""
+    return tuple([units for item, units in sorted(shares)])
 
 
 def plan_with_total(part, total):
     """A plan that fits with this total; part is that of all items."""
-    return tuple([units for item, units in sorted(shares_of(part, total))])
+    return plan_of_shares(shares_of(part, total))
+
+
+def part_with_total(system, total):
+    """The part of all items, if total is a possible total."""
+    part = part_of_all(system)
+    if not is_between(total, part.low, part.high):
+        raise NoTotal(total)
+    return part
 
 
 def totals_of(system):

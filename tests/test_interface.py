@@ -4,7 +4,7 @@ import inspect
 import unittest
 
 import groupcaps
-from groupcaps import errors, systems, totals
+from groupcaps import best, errors, even, evidence, ranges, systems, totals
 
 FUNCTIONS = {
     systems: {
@@ -26,6 +26,35 @@ FUNCTIONS = {
         "certificate": ["system"],
         "is_certificate": ["system", "value"],
     },
+    best: {
+        "greatest_gain": ["system"],
+        "best_plan": ["system"],
+        "gain_at": ["system", "total"],
+        "plan_at": ["system", "total"],
+        "gain_steps": ["system"],
+    },
+    evidence: {
+        "price_bound": ["system", "value"],
+        "after_exchange": ["system", "plan", "exchange"],
+        "is_gaining": ["system", "plan", "value"],
+        "judge": ["system", "plan"],
+        "is_judgement": ["system", "plan", "value"],
+        "best_prices": ["system"],
+    },
+    ranges: {
+        "unit_range": ["system", "item"],
+        "next_best": ["system", "plan"],
+        "walk_best": ["system"],
+        "count_best": ["system"],
+        "distance": ["one", "other"],
+        "way_between": ["system", "first", "last"],
+        "is_way": ["system", "first", "last", "value"],
+    },
+    even: {
+        "is_as_even": ["one", "other"],
+        "even_plan": ["system", "total"],
+        "evening_move": ["system", "plan"],
+    },
 }
 
 
@@ -42,6 +71,9 @@ class InterfaceTest(unittest.TestCase):
                     for parameter in parameters:
                         self.assertEqual(parameter.kind, parameter.POSITIONAL_OR_KEYWORD)
                         self.assertIs(parameter.default, parameter.empty)
+
+    def test_walk_best_is_a_generator(self):
+        self.assertTrue(inspect.isgeneratorfunction(ranges.walk_best))
 
     def test_errors_are_defined_in_their_module(self):
         for name, value in vars(errors).items():

@@ -52,6 +52,41 @@ class LanguageTest(unittest.TestCase):
             self.assertTrue(node.module.startswith("groupcaps."), name)
             self.assertTrue(all(alias.asname is None and alias.name != "*" for alias in node.names))
 
+    def test_imports_name_the_file_that_defines(self):
+        for name, node in self.nodes(ast.ImportFrom):
+            path = PACKAGE.parent.joinpath(*node.module.split(".")).with_suffix(".py")
+            defined = [item.name for item in ast.parse(path.read_text("utf-8")).body if hasattr(item, "name")]
+            defined.extend(re.findall(r"^([A-Z_]+) = ", path.read_text("utf-8"), re.MULTILINE))
+            for alias in node.names:
+                self.assertIn(alias.name, defined, name)
+
+    def test_no_local_name_of_an_import(self):
+        for path in FILES:
+            tree = list(ast.walk(ast.parse(path.read_text("utf-8"))))
+            barred = [alias.name for node in tree if isinstance(node, ast.ImportFrom) for alias in node.names]
+            barred.extend(node.name for node in tree if isinstance(node, ast.ClassDef))
+            stored = [node.id for node in tree if isinstance(node, ast.Name) and isinstance(node.ctx, ast.Store)]
+            stored.extend(node.arg for node in tree if isinstance(node, ast.arg))
+            self.assertEqual(set(stored) & set(barred), set(), path.name)
+
+    def test_generators(self):
+        functions = [node for name, node in self.nodes(ast.FunctionDef)]
+        for function in functions:
+            yields = [node for node in ast.walk(function) if isinstance(node, (ast.Yield, ast.YieldFrom))]
+            if yields:
+                self.assertEqual([other.name for other in functions].count(function.name), 1)
+                statements = [node.value for node in ast.walk(function) if isinstance(node, ast.Expr)]
+                self.assertTrue(all(node in statements for node in yields), function.name)
+                for node in ast.walk(function):
+                    self.assertNotIsInstance(node, (ast.Try, ast.With))
+                    self.assertTrue(not isinstance(node, ast.Return) or node.value is None)
+
+    def test_handlers_catch_own_errors(self):
+        own = [node.name for name, node in self.nodes(ast.ClassDef)]
+        for name, node in self.nodes(ast.ExceptHandler):
+            self.assertIsInstance(node.type, ast.Name, name)
+            self.assertIn(node.type.id, own, name)
+
     def test_kinds_of_nodes(self):
         barred = (ast.Global, ast.AsyncFunctionDef, ast.AsyncFor, ast.AsyncWith, ast.Await, ast.Div, ast.Set)
         for name, node in self.nodes(barred):

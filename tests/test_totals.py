@@ -18,6 +18,7 @@ from samples import (
     HUGE,
     LIMIT,
     N,
+    ODD_NUMBERS,
     ODD_VALUES,
     S,
     T,
@@ -29,8 +30,6 @@ from samples import (
     made_system,
     small_systems,
 )
-
-ODD_NUMBERS = (None, True, False, "", "0", (), (0,), [0], {}, 10 ** 99, -(10 ** 99), -1)
 
 # Groups within groups; group 1 is the same as the union of two groups inside it.
 NESTED = (
