@@ -1,4 +1,4 @@
-"""The exceptions of the package."""
+"""The exceptions of the package; the message of each is the name of its class."""
 
 
 class CapError(ValueError):
@@ -11,6 +11,9 @@ class NoItem(CapError):
     def __init__(self, item):
         self.item = item
 
+    def __str__(self):
+        return "NoItem"
+
 
 class NoUnits(CapError):
     """units is not an integer from 0 to the capacity."""
@@ -18,9 +21,15 @@ class NoUnits(CapError):
     def __init__(self, units):
         self.units = units
 
+    def __str__(self):
+        return "NoUnits"
+
 
 class NoPlan(CapError):
     """A value is not a plan of the kind that is asked for."""
+
+    def __str__(self):
+        return "NoPlan"
 
 
 class NoFit(CapError):
@@ -29,6 +38,9 @@ class NoFit(CapError):
     def __init__(self, contradiction):
         self.contradiction = contradiction
 
+    def __str__(self):
+        return "NoFit"
+
 
 class NoTotal(CapError):
     """total is not a possible total."""
@@ -36,9 +48,15 @@ class NoTotal(CapError):
     def __init__(self, total):
         self.total = total
 
+    def __str__(self):
+        return "NoTotal"
+
 
 class NoExchange(CapError):
     """A value is not an exchange that leads to a plan that fits."""
+
+    def __str__(self):
+        return "NoExchange"
 
 
 class TooMany(CapError):
@@ -47,13 +65,22 @@ class TooMany(CapError):
     def __init__(self, limit):
         self.limit = limit
 
+    def __str__(self):
+        return "TooMany"
+
 
 class NoGains(CapError):
     """A value is not gains."""
 
+    def __str__(self):
+        return "NoGains"
+
 
 class NoGroup(CapError):
     """A value is not a group that can be added."""
+
+    def __str__(self):
+        return "NoGroup"
 
 
 class NoNumber(CapError):
@@ -62,9 +89,15 @@ class NoNumber(CapError):
     def __init__(self, number):
         self.number = number
 
+    def __str__(self):
+        return "NoNumber"
+
 
 class NoLimits(CapError):
     """Two values are not limits of a group."""
+
+    def __str__(self):
+        return "NoLimits"
 
 
 class BadSystem(CapError):
@@ -73,9 +106,15 @@ class BadSystem(CapError):
     def __init__(self, error):
         self.error = error
 
+    def __str__(self):
+        return "BadSystem"
+
 
 class NothingToUndo(CapError):
     """No operation is in effect."""
+
+    def __str__(self):
+        return "NothingToUndo"
 
 
 class NoMoment(CapError):
@@ -84,9 +123,15 @@ class NoMoment(CapError):
     def __init__(self, at):
         self.at = at
 
+    def __str__(self):
+        return "NoMoment"
+
 
 class NoOperations(CapError):
     """A value is not a batch of operations."""
+
+    def __str__(self):
+        return "NoOperations"
 
 
 class Failed(CapError):
@@ -95,6 +140,9 @@ class Failed(CapError):
     def __init__(self, index):
         self.index = index
 
+    def __str__(self):
+        return "Failed"
+
 
 class Blocked(CapError):
     """No plan would fit the system of a guarded session."""
@@ -102,9 +150,15 @@ class Blocked(CapError):
     def __init__(self, contradiction):
         self.contradiction = contradiction
 
+    def __str__(self):
+        return "Blocked"
+
 
 class BadText(CapError):
     """A value is not a text of the kind that is read; line is its first wrong line."""
 
     def __init__(self, line):
         self.line = line
+
+    def __str__(self):
+        return "BadText"

@@ -53,14 +53,17 @@ def capacity_of_gains(gains):
     return sum([count for count, gain in gains])
 
 
+def are_limits(least, most):
+    """Whether these are the limits of a group."""
+    return is_between(most, 0, LIMIT) and is_between(least, 0, most)
+
+
 def is_group(value, many):
     """Whether value is a group in a system with this many items."""
     if not is_tuple_of(value, 3):
         return False
     members, least, most = value
-    if not is_choice(members, many) or len(members) == 0:
-        return False
-    return is_between(most, 0, LIMIT) and is_between(least, 0, most)
+    return is_choice(members, many) and len(members) > 0 and are_limits(least, most)
 
 
 def are_compatible(members, others):

@@ -94,6 +94,91 @@ UNFIT = (
 )
 
 
+# Values that are no gains, near misses among them.
+ODD_GAINS = (
+    *ODD_VALUES,
+    [(1, 1)],
+    ([1, 1],),
+    ((1,),),
+    ((1, 1, 1),),
+    (1, 1),
+    ((0, 1),),
+    ((-1, 1),),
+    ((True, 1),),
+    ((1, True),),
+    (("1", 1),),
+    ((1, None),),
+    ((1, 1), (1, 1)),
+    ((1, 1), (1, 2)),
+    ((1, MAX_GAIN + 1),),
+    ((1, -MAX_GAIN - 1),),
+    ((LIMIT + 1, 1),),
+    ((LIMIT, 1), (1, 0)),
+    ((1, 6), (1, 5), (1, 4), (1, 3), (1, 2), (1, 1)),
+)
+
+
+# Gains at the edges of what is allowed.
+EDGE_GAINS = (
+    (),
+    ((1, 0),),
+    ((1, MAX_GAIN), (1, -MAX_GAIN)),
+    ((LIMIT, -1),),
+    ((LIMIT - 1, 1), (1, 0)),
+    ((1, 5), (1, 4), (1, 3), (1, 2), (1, 1)),
+)
+
+
+# Values that are no group of two items, whatever other groups there are.
+ODD_GROUPS = (
+    *ODD_VALUES,
+    (),
+    [(0,), 0, 1],
+    ([0], 0, 1),
+    (0, 0, 1),
+    ((0,), 0),
+    ((0,), 0, 1, 1),
+    ((), 0, 1),
+    ((0, 0), 0, 1),
+    ((1, 0), 0, 1),
+    ((2,), 0, 1),
+    ((0, 2), 0, 1),
+    ((-1,), 0, 1),
+    ((False,), 0, 1),
+    ((True,), 0, 1),
+    (("0",), 0, 1),
+    ((0,), -1, 1),
+    ((0,), 2, 1),
+    ((0,), 0, LIMIT + 1),
+    ((0,), LIMIT + 1, LIMIT + 1),
+    ((0,), False, 1),
+    ((0,), 0, True),
+    ((0,), 0, None),
+    ((0,), "0", 1),
+)
+
+
+# Pairs that are no limits of a group.
+ODD_LIMITS = (
+    (1, 0),
+    (-1, 0),
+    (-2, -1),
+    (0, LIMIT + 1),
+    (LIMIT + 1, LIMIT + 1),
+    (LIMIT, LIMIT - 1),
+    (False, 1),
+    (0, True),
+    (None, 1),
+    (0, None),
+    ("0", 1),
+    (0, "1"),
+    ((0,), 1),
+    (0, [1]),
+    ({}, {}),
+    (-(10 ** 99), 10 ** 99),
+)
+
+
 class Numbers:
     """Numbers that look thrown but are the same in each run."""
 

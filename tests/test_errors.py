@@ -81,7 +81,12 @@ class ErrorsTest(unittest.TestCase):
                     raise getattr(errors, name)(*[held for attribute in attributes])
                 for attribute in attributes:
                     self.assertIs(getattr(caught.exception, attribute), held)
-                self.assertIsInstance(str(caught.exception), str)
+
+    def test_message_is_the_name_of_the_class(self):
+        # Sessions and consoles tell of exceptions by it.
+        for name, attributes in ATTRIBUTES.items():
+            with self.subTest(name=name):
+                self.assertEqual(str(getattr(errors, name)(*[0 for attribute in attributes])), name)
 
 
 if __name__ == "__main__":

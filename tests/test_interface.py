@@ -1,10 +1,10 @@
-"""[2], [76]: each name stands in its module, with its arguments."""
+"""[2], [76]: each name stands in its module, with its arguments, and each method in its class."""
 
 import inspect
 import unittest
 
 import groupcaps
-from groupcaps import best, errors, even, evidence, ranges, systems, totals
+from groupcaps import best, changes, consoles, errors, even, evidence, ranges, sessions, systems, texts, totals
 
 FUNCTIONS = {
     systems: {
@@ -55,6 +55,44 @@ FUNCTIONS = {
         "even_plan": ["system", "total"],
         "evening_move": ["system", "plan"],
     },
+    changes: {
+        "with_gains": ["system", "item", "gains"],
+        "with_group": ["system", "group"],
+        "without_group": ["system", "number"],
+        "idle_groups": ["system"],
+        "worth_of": ["system", "number"],
+    },
+    texts: {
+        "format_system": ["system"],
+        "parse_system": ["value"],
+        "format_plan": ["plan"],
+        "parse_plan": ["value"],
+    },
+}
+
+CLASSES = {
+    sessions.Session: {
+        "__init__": "(self, data, *, limit=60)",
+        "set_gains": "(self, item, gains)",
+        "set_limits": "(self, number, least, most)",
+        "add_group": "(self, group)",
+        "remove_group": "(self, number)",
+        "add_item": "(self, gains)",
+        "undo": "(self)",
+        "apply_all": "(self, operations)",
+        "log": "(self)",
+        "data": "(self, *, at=None)",
+        "totals": "(self, *, at=None)",
+        "best": "(self, *, at=None)",
+        "clone": "(self)",
+        "preview": "(self, operations)",
+        "choose": "(self, value)",
+        "__len__": "(self)",
+        "__str__": "(self)",
+        "__eq__": "(self, other)",
+    },
+    sessions.GuardedSession: {"__init__": "(self, data, *, limit=60)"},
+    consoles.Console: {"__init__": "(self, session)", "execute": "(self, line)", "history": "(self)"},
 }
 
 
@@ -71,6 +109,36 @@ class InterfaceTest(unittest.TestCase):
                     for parameter in parameters:
                         self.assertEqual(parameter.kind, parameter.POSITIONAL_OR_KEYWORD)
                         self.assertIs(parameter.default, parameter.empty)
+
+    def test_joined(self):
+        self.assertEqual(changes.joined.__module__, "groupcaps.changes")
+        self.assertEqual(str(inspect.signature(changes.joined)), "(*systems)")
+
+    def test_methods_stand_in_their_class(self):
+        for held, methods in CLASSES.items():
+            for name, signature in methods.items():
+                with self.subTest(held=held.__name__, name=name):
+                    method = vars(held)[name]
+                    self.assertTrue(inspect.isfunction(method))
+                    self.assertEqual(str(inspect.signature(method)), signature)
+
+    def test_other_parts_of_sessions(self):
+        held = vars(sessions.Session)
+        self.assertIsInstance(held["from_text"], classmethod)
+        self.assertEqual(str(inspect.signature(sessions.Session.from_text)), "(value)")
+        self.assertIsInstance(held["operation_names"], staticmethod)
+        self.assertEqual(str(inspect.signature(sessions.Session.operation_names)), "()")
+        self.assertIsInstance(held["gain"], property)
+        self.assertIsInstance(held["plan"], property)
+        self.assertEqual(held["LIMIT"], 60)
+
+    def test_classes_are_defined_in_their_module(self):
+        for held, module in (
+            (sessions.Session, "groupcaps.sessions"),
+            (sessions.GuardedSession, "groupcaps.sessions"),
+            (consoles.Console, "groupcaps.consoles"),
+        ):
+            self.assertEqual(held.__module__, module)
 
     def test_walk_best_is_a_generator(self):
         self.assertTrue(inspect.isgeneratorfunction(ranges.walk_best))

@@ -10,9 +10,10 @@ PACKAGE = pathlib.Path(__file__).resolve().parent.parent / "groupcaps"
 FILES = sorted(path for path in PACKAGE.rglob("*") if path.is_file() and "__pycache__" not in path.parts)
 BUILTINS = (
     "len range enumerate zip min max sum abs sorted reversed int str bool bytes list tuple dict set isinstance ord "
-    "repr any all divmod ValueError KeyError"
+    "repr any all divmod ValueError KeyError property staticmethod classmethod super"
 ).split()
 BARRED = "type typing enum Enum Generic Protocol ABC namedtuple abstractmethod dataclass overload contextmanager".split()
+SPECIAL = ("__init__", "__eq__", "__str__", "__len__")
 METHODS = (
     "append clear copy count endswith extend find get index insert isalnum isalpha isdigit islower isspace isupper "
     "items join keys ljust lower lstrip partition pop remove replace reverse rfind rjust rpartition rsplit rstrip "
@@ -84,8 +85,9 @@ class LanguageTest(unittest.TestCase):
     def test_handlers_catch_own_errors(self):
         own = [node.name for name, node in self.nodes(ast.ClassDef)]
         for name, node in self.nodes(ast.ExceptHandler):
-            self.assertIsInstance(node.type, ast.Name, name)
-            self.assertIn(node.type.id, own, name)
+            for kind in node.type.elts if isinstance(node.type, ast.Tuple) else [node.type]:
+                self.assertIsInstance(kind, ast.Name, name)
+                self.assertIn(kind.id, own, name)
 
     def test_kinds_of_nodes(self):
         barred = (ast.Global, ast.AsyncFunctionDef, ast.AsyncFor, ast.AsyncWith, ast.Await, ast.Div, ast.Set)
@@ -103,7 +105,7 @@ class LanguageTest(unittest.TestCase):
         stored.extend((name, node.arg) for name, node in self.nodes(ast.arg))
         stored.extend((name, node.name) for name, node in self.nodes((ast.FunctionDef, ast.ClassDef)))
         for name, word in stored:
-            if word != "__init__":
+            if word not in SPECIAL:
                 self.assertFalse(word.startswith("_"), (name, word))
                 self.assertNotIn(word, dir(builtins), name)
 
@@ -117,6 +119,37 @@ class LanguageTest(unittest.TestCase):
         for name, node in self.nodes(ast.Call):
             if isinstance(node.func, ast.Attribute):
                 self.assertIn(node.func.attr, METHODS + own, (name, node.lineno))
+
+    def test_no_generator_expressions(self):
+        # Where a class has __eq__, any, all, sum and the like take lists.
+        for name, node in self.nodes(ast.GeneratorExp):
+            self.fail((name, node.lineno))
+
+    def test_decorators(self):
+        for name, node in self.nodes(ast.FunctionDef):
+            for decorator in node.decorator_list:
+                text = ast.unparse(decorator)
+                self.assertIn(text, ("property", "staticmethod", "classmethod", f"{node.name}.setter"), name)
+        for name, node in self.nodes(ast.ClassDef):
+            self.assertEqual(node.decorator_list, [], name)
+
+    def test_class_values_are_written_out(self):
+        for name, node in self.nodes(ast.ClassDef):
+            for statement in node.body:
+                if isinstance(statement, ast.Assign):
+                    self.assertIsInstance(statement.value, ast.Constant, (name, node.name))
+
+    def test_special_methods_assign_nothing(self):
+        for name, node in self.nodes(ast.FunctionDef):
+            if node.name in SPECIAL[1:]:
+                kinds = [type(statement) for statement in node.body]
+                self.assertEqual(kinds, [ast.Return], (name, node.name))
+
+    def test_no_name_is_a_method_and_an_attribute(self):
+        methods = [item.name for name, node in self.nodes(ast.ClassDef) for item in node.body if hasattr(item, "name")]
+        stored = [node for name, node in self.nodes(ast.Attribute) if isinstance(node.ctx, ast.Store)]
+        attributes = [node.attr for node in stored if node.attr != "plan"]
+        self.assertEqual(set(methods) & set(attributes), set())
 
     def test_no_state_at_module_level(self):
         for path in FILES:
